@@ -1,5 +1,7 @@
 """Writes calls as the lists of numbers that the program reads, and takes its answers apart."""
 
+import itertools
+
 from worthroutes.maps import answers
 
 LEAST_INT = -2147483648
@@ -9,6 +11,9 @@ MOST_CALLS = 400
 JOINT = [0, 0, 0, 0, 0]
 CLEAR = [6]
 GRAPH = [7]
+RUN = [11]
+REACH = [15]
+GREEDY = [18]
 
 
 def stop(worth=0, full=0, base=0):
@@ -45,6 +50,34 @@ def count(length):
 
 def route(length, place):
     return [9, length, place]
+
+
+def best(length):
+    return [10, length]
+
+
+def path(nodes):
+    return [12, len(nodes)] + list(nodes)
+
+
+def check_row(row):
+    return [13, len(row)] + list(row)
+
+
+def check(*paths):
+    return check_row([number for nodes in paths for number in [len(nodes)] + list(nodes)])
+
+
+def bound(values, prices):
+    return [14, len(values)] + list(values) + [len(prices)] + list(prices)
+
+
+def without(place):
+    return [16, place]
+
+
+def more(length):
+    return [17, length]
 
 
 def chain(places):
@@ -94,6 +127,46 @@ def told_routes(calls, length):
 def all_routes(calls, length):
     """Each route's nodes."""
     return [one[3:] for one in told_routes(calls, length)]
+
+
+def group(first, many, base=1, worth=1):
+    """Stops of which each is joined with each other one."""
+    places = range(first, first + many)
+    return [stop(worth, 0, base)] * many + [line(a, b) for a, b in itertools.combinations(places, 2)]
+
+
+def ring(first, many, base=1, worth=1):
+    places = list(range(first, first + many))
+    return [stop(worth, 0, base)] * many + chain(places + [first])
+
+
+def groups(sizes, base=1, worth=1):
+    """Groups apart from one another."""
+    calls = []
+    first = 0
+    for many in sizes:
+        calls += group(first, many, base, worth)
+        first += many
+    return calls
+
+
+def answers_behind(before, asked):
+    """The answers to what is asked of that map; it must be the same behind each of them."""
+    told = []
+    at_once = (MOST_CALLS - len(before) - 1) // 2
+    for first in range(0, len(asked), at_once):
+        calls = before + [GRAPH]
+        for call in asked[first:first + at_once]:
+            calls += [call, GRAPH]
+        behind = each_answer(calls)[len(before):]
+        if any(one != behind[0] for one in behind[::2]):
+            raise AssertionError("a call that only tells has changed the map")
+        told += behind[1::2]
+    return told
+
+
+def answer_behind(before, call):
+    return answers_behind(before, [call])[0]
 
 
 def check_refused(case, before, call, refusal):

@@ -38,6 +38,9 @@ UNUSED_WORDS = (
 ).split()
 UNUSED_PARTS = ("dataclass", "overload", "contextmanager")
 ON_THE_SPOT = ("zip", "enumerate", "reversed", "range")
+CHANGES = ("append", "clear", "extend", "insert", "pop", "remove", "reverse", "setdefault", "update")
+KEYWORDS = {"sorted": ("key", "reverse"), "min": ("key", "default"), "max": ("key", "default"), "sum": ("start",),
+            "enumerate": ("start",), "zip": ("strict",)}
 WALKERS = ("list", "tuple", "dict", "sorted", "sum", "any", "all", "enumerate", "zip", "min", "max")
 
 
@@ -185,6 +188,36 @@ class FormTest(unittest.TestCase):
         for name, one in every(ast.Call):
             if isinstance(one.func, ast.Name) and one.func.id in ON_THE_SPOT:
                 self.assertIn((one.lineno, one.col_offset), at, (name, one.lineno))
+
+    def test_what_a_loop_walks_is_not_changed_in_it(self):
+        for name, loop in every(ast.For):
+            walked = [ast.dump(one) for one in ast.walk(loop.iter) if isinstance(one, (ast.Name, ast.Attribute))]
+            for one in ast.walk(loop):
+                if isinstance(one, ast.Call) and isinstance(one.func, ast.Attribute) and one.func.attr in CHANGES:
+                    self.assertNotIn(ast.dump(one.func.value), walked, (name, one.lineno))
+                if isinstance(one, ast.Subscript) and isinstance(one.ctx, ast.Store):
+                    self.assertNotIn(ast.dump(one.value), walked, (name, one.lineno))
+
+    def test_sets_are_only_counted_or_sorted(self):
+        within = [
+            (inner.lineno, inner.col_offset) for name, one in every(ast.Call)
+            if isinstance(one.func, ast.Name) and one.func.id in ("len", "sorted") for inner in one.args
+        ]
+        for name, one in every(ast.Call):
+            if isinstance(one.func, ast.Name) and one.func.id in ("set", "frozenset"):
+                self.assertIn((one.lineno, one.col_offset), within, (name, one.lineno))
+
+    def test_keywords(self):
+        for name, one in every(ast.Call):
+            allowed = KEYWORDS.get(one.func.id, ()) if isinstance(one.func, ast.Name) else ()
+            for keyword in one.keywords:
+                self.assertIn(keyword.arg, allowed, (name, one.lineno))
+
+    def test_nothing_of_a_files_top_is_a_list_or_a_dict(self):
+        for name, tree in trees():
+            for one in tree.body:
+                if isinstance(one, ast.Assign):
+                    self.assertNotIsInstance(one.value, (ast.List, ast.Dict), (name, one.lineno))
 
 
 if __name__ == "__main__":

@@ -1,9 +1,13 @@
 """Answers a list of calls on one new map."""
 
+from worthroutes.bounds import judge_bound
 from worthroutes.changes import add_line, add_node, add_train, clear_map, remove_line, scrap_train, set_stop
+from worthroutes.paths import check_paths, judge_path
 from worthroutes.railmap import RailMap, graph
+from worthroutes.reaching import reach
 from worthroutes.reading import read_calls
-from worthroutes.routes import count_routes, route_at
+from worthroutes.routes import best_route, count_routes, route_at
+from worthroutes.runs import best_run, greedy_worth, worth_with_more, worth_without
 
 LAST_CHANGE = 6
 
@@ -25,20 +29,41 @@ def change(rails, number, told):
     return clear_map(rails)
 
 
+def judge(rails, number, rows):
+    """The answers to calls 12 to 14, which have rows."""
+    if number == 12:
+        return judge_path(rails, rows[0])
+    if number == 13:
+        return check_paths(rails, rows[0])
+    return judge_bound(rails, rows[0], rows[1])
+
+
 def tell(rails, number, told):
-    """The answers to the calls behind these, which leave the map as it is."""
+    """The answers to the other calls, which leave the map as it is."""
     if number == 7:
         return graph(rails)
     if number == 8:
         return count_routes(rails, told[0])
     if number == 9:
         return route_at(rails, told[0], told[1])
-    raise NotImplementedError(f"call {number}")
+    if number == 10:
+        return best_route(rails, told[0])
+    if number == 11:
+        return best_run(rails)
+    if number == 15:
+        return reach(rails)
+    if number == 16:
+        return worth_without(rails, told[0])
+    if number == 17:
+        return worth_with_more(rails, told[0])
+    return greedy_worth(rails)
 
 
 def answer(rails, call):
     if call.number <= LAST_CHANGE:
         return change(rails, call.number, call.numbers)
+    if len(call.rows) > 0:
+        return judge(rails, call.number, call.rows)
     return tell(rails, call.number, call.numbers)
 
 

@@ -30,6 +30,15 @@ class RailMap:
         self.trains = []
 
 
+def copied_map(rails):
+    """Another map with the same nodes, lines and trains, on which a change may be tried."""
+    other = RailMap()
+    other.nodes = list(rails.nodes)
+    other.lines = list(rails.lines)
+    other.trains = list(rails.trains)
+    return other
+
+
 def has_place(things, place):
     return 0 <= place < len(things)
 
@@ -44,6 +53,10 @@ def is_worth(number):
 
 def is_length(number):
     return LEAST_LENGTH <= number <= MOST_LENGTH
+
+
+def longest_train(rails):
+    return max(rails.trains, default=0)
 
 
 def are_joined(rails, a, b):

@@ -74,6 +74,20 @@ def find_routes(rails, length):
     return [way for way in ways if is_route(rails, way)]
 
 
+def routes_for(routes, length):
+    """Those of these routes that a train of that length may take, in the same order."""
+    return [route for route in routes if route.stops <= length]
+
+
+def richest(routes):
+    """The one of most worth, of several the first; None if there's none."""
+    found = None
+    for route in routes:
+        if found is None or route.worth > found.worth:
+            found = route
+    return found
+
+
 def told_route(route):
     return [route.worth, route.stops, len(route.nodes)] + route.nodes
 
@@ -96,3 +110,15 @@ def route_at(rails, length, place):
     if not has_place(routes, place):
         return [NO_SUCH_ROUTE]
     return told_route(routes[place])
+
+
+def best_route(rails, length):
+    if not is_length(length):
+        return [WRONG_NUMBER]
+    routes = find_routes(rails, length)
+    if routes is None:
+        return [TOO_MANY_WAYS]
+    best = richest(routes)
+    if best is None:
+        return [0, 0, 0]
+    return told_route(best)
