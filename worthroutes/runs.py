@@ -24,24 +24,22 @@ class Search:
     def __init__(self, offers):
         self.offers = offers
         self.hopes = most_from_each(offers)
-        self.taken = []
         self.best = []
         # Less than any run's worth, so that a run of worth 0 is kept too.
         self.worth = -1
 
-    def try_train(self, train, used, worth):
+    def try_next(self, taken, used, worth):
+        """Goes on with each offer for the train behind those that have taken theirs."""
+        train = len(taken)
         if train == len(self.offers):
-            self.best = list(self.taken)
+            self.best = taken
             self.worth = worth
             return
-        # A run that can get no more than the best one so far comes behind it.
-        needed = self.worth - worth - self.hopes[train + 1]
+        hope = worth + self.hopes[train + 1]
         for offer in self.offers[train]:
-            if offer.worth > needed and offer.lines & used == 0:
-                self.taken.append(offer)
-                self.try_train(train + 1, used | offer.lines, worth + offer.worth)
-                self.taken.pop()
-                needed = self.worth - worth - self.hopes[train + 1]
+            # A run that can get no more than the best one so far comes behind it.
+            if hope + offer.worth > self.worth and offer.lines & used == 0:
+                self.try_next(taken + [offer], used | offer.lines, worth + offer.worth)
 
 
 def most_from_each(offers):
@@ -87,7 +85,7 @@ def best_run(rails):
     if are_too_many(offers):
         return [TOO_MANY_RUNS]
     search = Search(offers)
-    search.try_train(0, 0, 0)
+    search.try_next([], 0, 0)
     return told_run(search)
 
 
